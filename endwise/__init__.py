@@ -1,0 +1,1 @@
+"""Endwise: rules over terms that come to an end."""
