@@ -97,7 +97,16 @@ def blanks(term):
 
 
 def heads(term):
-    return sorted(set([head(found) for found in parts(term) if isinstance(found, tuple)]))
+    return all_heads([term])
+
+
+def all_heads(terms):
+    met = {}
+    for term in terms:
+        for found in parts(term):
+            if isinstance(found, tuple):
+                met[head(found)] = True
+    return sorted(met)
 
 
 def paths(term):

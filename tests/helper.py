@@ -66,6 +66,14 @@ def wide(count):
     return ("w",) + tuple(wide(each + 1 if number < more else each) for number in range(9))
 
 
+def bush(leaves):
+    """A term with just these leaves, from the left, of few levels; two bushes of as many leaves are alike above them."""
+    row = list(leaves)
+    while len(row) > 1:
+        row = [("t",) + tuple(row[start:start + 9]) for start in range(0, len(row), 9)]
+    return row[0]
+
+
 def small_terms(deepest, leaves=(0, 1, ("a",)), names=(("f", 1), ("g", 2))):
     """All terms of at most so many levels over these leaves and heads."""
     found = list(leaves)

@@ -139,6 +139,22 @@ class LanguageTest(unittest.TestCase):
                 kept.add(node.attr)
         self.assertEqual(set(), methods & kept)
 
+    def test_a_class_is_no_value(self):
+        own = {node.name for _, node in self.each(ast.ClassDef)}
+        for name, text in sources():
+            above = {}
+            for node in ast.walk(ast.parse(text)):
+                for child in ast.iter_child_nodes(node):
+                    above[child] = node
+                if isinstance(node, ast.Name) and node.id in own:
+                    where, over = f"{name}:{node.lineno}", above[node]
+                    if isinstance(over, ast.Attribute):
+                        self.assertEqual("__init__", over.attr, where)
+                    elif isinstance(over, ast.Call) and node in over.args:
+                        self.assertEqual("isinstance", called(over), where)
+                    else:
+                        self.assertIsInstance(over, (ast.Call, ast.ClassDef, ast.ExceptHandler, ast.Tuple), where)
+
     def test_statements_and_expressions(self):
         for where, node in self.each(ast.stmt, ast.expr):
             self.assertIsInstance(node, STATEMENTS + EXPRESSIONS, where)

@@ -11,17 +11,31 @@ ROOT = os.path.dirname(os.path.dirname(os.path.abspath(__file__)))
 ASKED = """
 import sys
 sys.path.insert(0, {root!r})
+from endwise import fits, ranks, rules, terms, texts
 from endwise.errors import EndError
-from endwise import terms, texts
+from endwise.papers import Paper
 TERM = ("f", ("k",), 7, ("g", 12, ("h", 7, ("a", 3), ("b",), ("c", ("d",), ("e", 999)))))
-asked = [(name, (TERM,)) for name in ("head", "levels", "count_parts", "blanks", "heads", "paths", "is_term")]
-asked += [("part", (TERM, (2, 1))), ("part", (TERM, (5,))), ("put", (TERM, (2, 1, 0), TERM))]
-asked += [("filled", (TERM, {{7: 3, 3: TERM, 12: 7}})), ("anew", ([("f", 3, 1), TERM],)), ("is_head", (("a", 9),))]
-asked += [("shown", (TERM,)), ("read", ("f(a,?0,g(?12))",)), ("read", ("f(a",)), ("is_name", ("abc",)), ("is_whole", (5,))]
+SUMS = rules.Rules([tuple(map(texts.read, text.split(">"))) for text in (
+    "add(n,?0)>?0", "add(s(?0),?1)>s(add(?0,?1))", "dbl(?0)>add(?0,?0)", "inf(?0)>inf(s(?0))", "big(?0)>tri(?0,?0,?0)",
+)])
+FOUND = rules.Rules(SUMS.told()[:3])
+DOUBLED = texts.read("dbl(add(s(s(n)),dbl(?4)))")
+PAPER = ranks.Ranks([("dbl", 1), ("add", 2), ("s", 1), ("n", 0)])
+asked = [(getattr(terms, name), (TERM,)) for name in ("head", "levels", "count_parts", "blanks", "heads", "paths", "is_term")]
+asked += [(terms.part, (TERM, (2, 1))), (terms.part, (TERM, (5,))), (terms.put, (TERM, (2, 1, 0), TERM))]
+asked += [(terms.filled, (TERM, {{7: 3, 3: TERM, 12: 7}})), (terms.anew, ([("f", 3, 1), TERM],)), (terms.is_head, (("a", 9),))]
+asked += [(texts.shown, (TERM,)), (texts.read, ("f(a,?0,g(?12))",)), (texts.read, ("f(a",)), (terms.is_name, ("abc",))]
+asked += [(terms.is_whole, (5,)), (fits.fit, (("f", 3, 2, 1), TERM)), (fits.fit, (("f", 3, 3, 1), TERM))]
+asked += [(fits.joint, (("f", 9, 8, 9, 4), ("f", ("g", 5), 6, ("g", 8), 3))), (fits.joint, (0, TERM)), (fits.joint, (7, TERM))]
+asked += [(rules.Rules, ([(0, 1)],)), (SUMS.told, ()), (SUMS.heads_of, ()), (SUMS.steps, (DOUBLED,)), (SUMS.end, (DOUBLED,))]
+asked += [(SUMS.walked, (DOUBLED, [((0, 1), 2), ((), 2)])), (SUMS.walked, (DOUBLED, [((), 1)])), (SUMS.end, (DOUBLED, 3))]
+asked += [(SUMS.end, (("inf", 0),)), (Paper().falls, (TERM, 7)), (Paper().lets, (SUMS,)), (PAPER.told, ())]
+asked += [(PAPER.falls, (DOUBLED, ("n",))), (PAPER.why, (DOUBLED, ("add", ("s", ("n",)), 4))), (PAPER.lets, (FOUND,))]
+asked += [(PAPER.lets, (SUMS,)), (lambda: ranks.ranks_of(FOUND).told(), ()), (ranks.ranks_of, (SUMS,))]
+asked += [(ranks.Ranks, ([("a", 10)],))]
 told = {{}}
 for number in sorted(range(len(asked)), reverse={reverse}):
-    name, handed = asked[number]
-    deed = getattr(terms, name, None) or getattr(texts, name)
+    deed, handed = asked[number]
     try:
         told[number] = repr(deed(*handed))
     except EndError as error:
@@ -40,8 +54,8 @@ def answers(seed, reverse):
 class WholeTest(unittest.TestCase):
     def test_neither_chance_nor_the_order_of_asking_changes_an_answer(self):
         told = answers(0, False)
-        self.assertIn("NoPath", told)
-        self.assertIn("NoText", told)
+        for refusal in ("NoPath", "NoText", "NoRule", "NoStep", "NoPaper", "NoHead", "TooMany", "TooGreat", "TooLong"):
+            self.assertIn(refusal, told)
         for seed in range(1, 5):
             self.assertEqual(told, answers(seed, seed % 2 == 1))
 
