@@ -1,7 +1,7 @@
 """Papers of ranks: one term falls to another by an order of the heads."""
 
-from endwise.errors import NoHead, NoPaper, TooMany
-from endwise.papers import Paper
+from endwise.errors import NoPaper, TooMany
+from endwise.papers import Paper, look_for
 from endwise.terms import all_heads, head, is_head, places
 
 MOST_RANKED = 60
@@ -19,25 +19,20 @@ class Ranks(Paper):
         return list(self.rank)
 
     def falls(self, one, other):
-        self.look_for(all_heads([one, other]))
+        look_for(all_heads([one, other]), self.rank)
         return Reckoning(self.rank).way(one, other) is not None
 
     def lets(self, rules):
         # The heads of all rules first: an early rule that does not fall hides none of them.
-        self.look_for(rules.heads_of())
+        look_for(rules.heads_of(), self.rank)
         for left, right in rules.told():
             if Reckoning(self.rank).way(left, right) is None:
                 return False
         return True
 
     def why(self, one, other):
-        self.look_for(all_heads([one, other]))
+        look_for(all_heads([one, other]), self.rank)
         return Reckoning(self.rank).tree(one, other)
-
-    def look_for(self, met):
-        for found in met:
-            if found not in self.rank:
-                raise NoHead("a head has no rank")
 
 
 class Reckoning:

@@ -3,6 +3,12 @@
 import itertools
 
 from endwise import errors
+from endwise.rules import Rules
+from endwise.texts import read
+
+# Adding and multiplying by s and n, and what outgrows both.
+SUMS = ["add(n,?0)>?0", "add(s(?0),?1)>s(add(?0,?1))", "mul(n,?0)>n", "mul(s(?0),?1)>add(mul(?0,?1),?1)"]
+ACK = ["k(n,?0)>s(?0)", "k(s(?0),n)>k(?0,s(n))", "k(s(?0),s(?1))>k(?0,k(s(?0),?1))"]
 
 
 class Stranger:
@@ -83,3 +89,17 @@ def small_terms(deepest, leaves=(0, 1, ("a",)), names=(("f", 1), ("g", 2))):
             above.extend((name,) + below for below in itertools.product(found, repeat=count))
         found = above
     return found
+
+
+def rule(text):
+    left, right = text.split(">")
+    return (read(left), read(right))
+
+
+def ruled(*texts):
+    return Rules([rule(text) for text in texts])
+
+
+def many_heads(count):
+    """So many unlike heads, up to sixty-four of them."""
+    return [("n" + "abcdefgh"[number // 8 % 8] + "abcdefgh"[number % 8], number % 10) for number in range(count)]

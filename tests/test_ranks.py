@@ -11,24 +11,16 @@ from endwise.ranks import Ranks, ranks_of
 from endwise.rules import Rules
 from endwise.terms import head, heads
 from endwise.texts import read
-from helper import bush, deep, refused, small_terms, strange_things, wide
+from helper import ACK, SUMS, bush, deep, many_heads, refused, ruled, small_terms, strange_things, wide
 
 A = ("a",)
 B = ("b",)
 HEADS = [("f", 1), ("g", 2), ("a", 0), ("b", 0)]
 
 
-def ruled(*texts):
-    return Rules([tuple(read(side) for side in text.split(">")) for text in texts])
-
-
 def ranked(text):
     """Ranks of heads written as f/1 g/2, the highest first."""
     return Ranks([(word.split("/")[0], int(word.split("/")[1])) for word in text.split()])
-
-
-SUMS = ["add(n,?0)>?0", "add(s(?0),?1)>s(add(?0,?1))", "mul(n,?0)>n", "mul(s(?0),?1)>add(mul(?0,?1),?1)"]
-ACK = ["k(n,?0)>s(?0)", "k(s(?0),n)>k(?0,s(n))", "k(s(?0),s(?1))>k(?0,k(s(?0),?1))"]
 
 
 def falls_by_words(order, one, other):
@@ -92,10 +84,6 @@ class InterfaceTest(unittest.TestCase):
     def test_under_paper(self):
         self.assertEqual((Paper,), Ranks.__bases__)
         self.assertIsInstance(Ranks([]), Paper)
-
-
-def many_heads(count):
-    return [("n" + "abcdefgh"[number // 8 % 8] + "abcdefgh"[number % 8], number % 10) for number in range(count)]
 
 
 class MadeTest(unittest.TestCase):

@@ -8,7 +8,7 @@ from endwise.fits import fit
 from endwise.rules import Rules
 from endwise.terms import count_parts, filled, is_term, levels, part, paths, put
 from endwise.texts import read, shown
-from helper import bush, deep, refused, small_terms, strange_things, wide
+from helper import bush, deep, refused, ruled, small_terms, strange_things, wide
 
 A = ("a",)
 B = ("b",)
@@ -21,15 +21,6 @@ SUMS = [
     (read("dbl(?3)"), read("add(?3,?3)")),
 ]
 GROWING = [(F0, ("f", F0))]
-
-
-def rule(text):
-    left, right = text.split(">")
-    return (read(left), read(right))
-
-
-def ruled(*texts):
-    return Rules([rule(text) for text in texts])
 
 
 class InterfaceTest(unittest.TestCase):

@@ -11,7 +11,7 @@ ROOT = os.path.dirname(os.path.dirname(os.path.abspath(__file__)))
 ASKED = """
 import sys
 sys.path.insert(0, {root!r})
-from endwise import fits, ranks, rules, terms, texts
+from endwise import calls, fits, numbers, overlaps, ranks, rules, terms, texts
 from endwise.errors import EndError
 from endwise.papers import Paper
 TERM = ("f", ("k",), 7, ("g", 12, ("h", 7, ("a", 3), ("b",), ("c", ("d",), ("e", 999)))))
@@ -33,6 +33,15 @@ asked += [(SUMS.end, (("inf", 0),)), (Paper().falls, (TERM, 7)), (Paper().lets, 
 asked += [(PAPER.falls, (DOUBLED, ("n",))), (PAPER.why, (DOUBLED, ("add", ("s", ("n",)), 4))), (PAPER.lets, (FOUND,))]
 asked += [(PAPER.lets, (SUMS,)), (lambda: ranks.ranks_of(FOUND).told(), ()), (ranks.ranks_of, (SUMS,))]
 asked += [(ranks.Ranks, ([("a", 10)],))]
+COUNTED = rules.Rules(FOUND.told()[:2])
+WORTH = numbers.numbers_of(COUNTED)
+asked += [(WORTH.told, ()), (WORTH.value, (DOUBLED[1], {{4: 9}})), (WORTH.form, (("add", 5, ("s", ("add", 9, 5))),)), (WORTH.lets, (FOUND,))]
+asked += [(WORTH.falls, (("add", ("s", 0), 1), ("s", ("add", 0, 1)))), (WORTH.count, (("add", 0, 1),)), (numbers.numbers_of, (SUMS,))]
+asked += [(numbers.Numbers, ([(("a", 1), [(1, (0,))])],)), (WORTH.value, (TERM,)), (calls.calls, (SUMS,)), (calls.Calls, ([(("a", 0), 0)],))]
+asked += [(lambda: calls.calls_of(FOUND).told(), ()), (calls.calls_of, (SUMS,)), (calls.Calls([(("s", 1), 0)]).lets, (FOUND,))]
+asked += [(calls.Calls([(("s", 1), 0)]).falls, (("s", ("s", 4)), ("s", 4))), (overlaps.overlaps, (SUMS,)), (overlaps.unlike_ends, (SUMS,))]
+LAPPED = rules.Rules(FOUND.told() + [(("add", 7, ("n",)), 7), (("add", ("s", 3), 2), ("dbl", 2)), (("dbl", ("dbl", 1)), ("f", 1))])
+asked += [(overlaps.overlaps, (LAPPED,)), (overlaps.unlike_ends, (LAPPED,))]
 told = {{}}
 for number in sorted(range(len(asked)), reverse={reverse}):
     deed, handed = asked[number]
