@@ -47,7 +47,8 @@ class Numbers(Paper):
         below = [self.form_of(place) for place in places(term)]
         made = {}
         for number, powers in self.products[head(term)]:
-            add_product(made, product_of_forms(number, powers, below))
+            for found, times in product_of_forms(number, powers, below).items():
+                add_product(made, found, times)
         return made
 
     def falls(self, one, other):
@@ -118,24 +119,26 @@ def product_of_forms(number, powers, below):
 def multiplied_out(one, other):
     made = {}
     for powers, number in one.items():
-        add_product(made, dict([(together(powers, more), number * times) for more, times in other.items()]))
+        for more, times in other.items():
+            add_product(made, together(powers, more), number * times)
     return made
 
 
 def together(powers, more):
+    if powers == ():
+        return more
     both = dict(powers)
     for blank, power in more:
         both[blank] = both.get(blank, 0) + power
+    if sum(both.values()) > MOST_POWERS:
+        raise TooMany("the powers of a product come to more than twelve")
     return tuple(sorted(both.items()))
 
 
-def add_product(made, more):
+def add_product(made, powers, number):
     # No number is ever less than 1, so what is added or multiplied later makes
-    # neither products nor powers fewer: it may be refused as soon as it is met.
-    for powers, number in more.items():
-        if sum([power for blank, power in powers]) > MOST_POWERS:
-            raise TooMany("the powers of a product come to more than twelve")
-        made[powers] = made.get(powers, 0) + number
+    # neither products nor powers fewer: they may be refused as soon as they are met.
+    made[powers] = made.get(powers, 0) + number
     if len(made) > MOST_IN_FORM:
         raise TooMany("the form has more than a hundred products")
 
