@@ -82,7 +82,11 @@ class LanguageTest(unittest.TestCase):
                 self.assertIsInstance(node, (ast.ImportFrom, ast.FunctionDef, ast.ClassDef, ast.Assign), name)
                 if isinstance(node, ast.Assign):
                     self.assertIsInstance(node.targets[0], ast.Name, name)
-                    ast.literal_eval(node.value)
+                    # Plain values, and functions that stand above.
+                    above = {one.name for one in tree.body if isinstance(one, ast.FunctionDef) and one.lineno < node.lineno}
+                    words = [one.id for one in ast.walk(node.value) if isinstance(one, ast.Name)]
+                    self.assertEqual(set(), set(words) - above, name)
+                    ast.literal_eval(re.sub(rf"\b({'|'.join(words)})\b(?!['\"])", "0", ast.unparse(node.value)) if words else node.value)
                     bound.append(node.targets[0].id)
                 elif isinstance(node, ast.ImportFrom):
                     bound.extend(alias.name for alias in node.names)

@@ -644,6 +644,27 @@ class NumbersOfTest(unittest.TestCase):
             self.assertGreater(met, 15)
 
 
+class MultipliedTest(unittest.TestCase):
+    def test_rows_of_steps_by_a_paper_with_products(self):
+        rules = ruled(*SUMS[:3], "mul(s(?0),?1)>add(?1,mul(?0,?1))")
+        paper = Numbers([
+            (("add", 2), [(2, (1, 0)), (1, (0, 1))]), (("mul", 2), [(3, (1, 1))]), (("n", 0), [(1, ())]), (("s", 1), [(1, (1,)), (1, (0,))]),
+        ])
+        self.assertIs(True, paper.lets(rules))
+        # None of those that are sought lets them: they have no products of two places.
+        self.assertIsNone(numbers_of(rules))
+        known, longest = {}, 0
+        for term in small_terms(3, (0, ("n",)), (("s", 1), ("mul", 2))) + [read("mul(s(s(n)),s(s(n)))"), read("mul(mul(s(s(n)),s(n)),s(?0))")]:
+            count = longest_row(rules, term, known)
+            self.assertLessEqual(count, paper.count(term))
+            longest = max(longest, count)
+        for term in list(known):
+            for step in rules.steps(term):
+                self.assertIs(True, paper.falls(term, step[2]))
+                self.assertGreater(paper.count(term), paper.count(step[2]))
+        self.assertGreater(longest, 5)
+
+
 class OwnTest(unittest.TestCase):
     def test_nothing_handed_in_is_changed(self):
         handed = copy.deepcopy(MIXED)

@@ -11,7 +11,8 @@ ROOT = os.path.dirname(os.path.dirname(os.path.abspath(__file__)))
 ASKED = """
 import sys
 sys.path.insert(0, {root!r})
-from endwise import calls, fits, numbers, overlaps, ranks, rules, terms, texts
+from endwise import calls, fits, houses, loops, numbers, overlaps, ranks, reasons, rules, terms, texts
+from endwise.desk import Desk
 from endwise.errors import EndError
 from endwise.papers import Paper
 TERM = ("f", ("k",), 7, ("g", 12, ("h", 7, ("a", 3), ("b",), ("c", ("d",), ("e", 999)))))
@@ -42,6 +43,20 @@ asked += [(lambda: calls.calls_of(FOUND).told(), ()), (calls.calls_of, (SUMS,)),
 asked += [(calls.Calls([(("s", 1), 0)]).falls, (("s", ("s", 4)), ("s", 4))), (overlaps.overlaps, (SUMS,)), (overlaps.unlike_ends, (SUMS,))]
 LAPPED = rules.Rules(FOUND.told() + [(("add", 7, ("n",)), 7), (("add", ("s", 3), 2), ("dbl", 2)), (("dbl", ("dbl", 1)), ("f", 1))])
 asked += [(overlaps.overlaps, (LAPPED,)), (overlaps.unlike_ends, (LAPPED,))]
+asked += [(loops.loop, (SUMS,)), (loops.loop, (FOUND,)), (loops.loop, (rules.Rules(SUMS.told()[3:] + [(("a",), ("big", ("a",)))]),))]
+asked += [(loops.chain, (SUMS, DOUBLED, ("add", ("dbl", ("s", ("n",))), 5))), (loops.chain, (SUMS, DOUBLED, ("add", DOUBLED, ("n",))))]
+ONE, OTHER = texts.read("g(f(a),h(b,c,d))"), texts.read("g(b,h(c,d,a))")
+PAIRS = [tuple(map(texts.read, text.split("="))) for text in ("f(f(f(a)))=a", "f(f(f(f(f(a)))))=a", "a=b", "c=d", "f(c)=f(b)", "h(a,c,d)=d", "d=a")]
+HOUSE = houses.House(PAIRS)
+asked += [(houses.beyond, (ONE, OTHER)), (HOUSE.told, ()), (HOUSE.rules_of, ()), (HOUSE.least, (ONE,)), (HOUSE.alike, (ONE, OTHER))]
+asked += [(HOUSE.reason, (ONE, OTHER)), (HOUSE.reason, (ONE, ("z",))), (houses.House, ([(0, 0)],)), (reasons.borne, ([("told", 9)], PAIRS))]
+asked += [(lambda: reasons.borne(HOUSE.reason(ONE, OTHER), PAIRS), ()), (reasons.borne, ([("told", 2), ("back", 0)], PAIRS))]
+LINES = ["rules y f(f(?0))>g(?0) a>b", "rules x b>a c>a", "names", "told y", "steps y f(f(a))", "end y f(f(a))", "same x b c", "ranks y"]
+LINES += ["count y f(a)", "calls y", "ends y", "overlaps y", "steady y", "drop x", "names"]
+def said():
+    desk = Desk()
+    return [desk.say(line) for line in LINES]
+asked += [(said, ()), (Desk().say, ("names x",)), (Desk().say, ("told x",)), (Desk().say, (None,))]
 told = {{}}
 for number in sorted(range(len(asked)), reverse={reverse}):
     deed, handed = asked[number]
@@ -63,7 +78,7 @@ def answers(seed, reverse):
 class WholeTest(unittest.TestCase):
     def test_neither_chance_nor_the_order_of_asking_changes_an_answer(self):
         told = answers(0, False)
-        for refusal in ("NoPath", "NoText", "NoRule", "NoStep", "NoPaper", "NoHead", "TooMany", "TooGreat", "TooLong"):
+        for refusal in ("NoPath", "NoText", "NoRule", "NoStep", "NoPaper", "NoHead", "NoPair", "NoReason", "TooMany", "TooGreat", "TooLong", "NoName", "NoLine"):
             self.assertIn(refusal, told)
         for seed in range(1, 5):
             self.assertEqual(told, answers(seed, seed % 2 == 1))
