@@ -2,7 +2,7 @@
 
 from endwise.errors import NoPaper, TooGreat, TooMany
 from endwise.papers import Paper, choices, look_for
-from endwise.terms import head, heads, is_head, is_whole, places
+from endwise.terms import all_heads, head, heads, is_head, is_whole, places
 
 MOST_NUMBERED = 60
 MOST_PRODUCTS = 40
@@ -175,13 +175,31 @@ def numbers_of(rules):
     rows = []
     for found in sought:
         rows.extend(rows_of(found))
+    seeking = Seeking(rules)
     # Rows of one head are of one length: so the numbers of all rows behind
     # one another are compared just as the lists of rows are.
     for chosen in choices(rows):
         paper = paper_chosen(sought, chosen)
-        if paper.lets(rules):
+        if seeking.lets_by(paper):
             return paper
     return None
+
+
+class Seeking:
+    # Asks as lets does, but keeps the answers: whether a rule's left side falls
+    # hangs only on what is chosen for the rule's own heads.
+    def __init__(self, rules):
+        self.asked = [(left, right, all_heads([left, right])) for left, right in rules.told()]
+        self.answered = {}
+
+    def lets_by(self, paper):
+        for number, rule in enumerate(self.asked):
+            chosen = (number, tuple([tuple(paper.products[found]) for found in rule[2]]))
+            if chosen not in self.answered:
+                self.answered[chosen] = paper.falls(rule[0], rule[1])
+            if not self.answered[chosen]:
+                return False
+        return True
 
 
 def rows_of(found):
